@@ -78,5 +78,12 @@ def book_of(shapes, debts):
     return (tuple(shapes), tuple(debts))
 
 
+def form_of(book, name):
+    for shape in book[0]:
+        if shape[0] == name:
+            return shape[2]
+    raise Unknown(name)
+
+
 def read_as(book, word):
     return (tuple([(shape[0], word, shape[2]) for shape in book[0]]), book[1])

@@ -19,10 +19,15 @@ MOST_FORMS = 40
 DEEPEST = 8
 
 
+# None of what is no form's word.
+def length_of(word):
+    return LENGTHS.get(word)
+
+
 def is_headed(thing):
     if not isinstance(thing, tuple) or len(thing) == 0 or not isinstance(thing[0], str):
         return False
-    return LENGTHS.get(thing[0]) == len(thing)
+    return length_of(thing[0]) == len(thing)
 
 
 def are_closed_bonds(thing):

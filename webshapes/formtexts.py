@@ -1,8 +1,8 @@
 """Forms as texts."""
 
 from webshapes.errors import NoForm
-from webshapes.forms import DEEPEST, LENGTHS, LISTS, MOST_BONDS, MOST_FORMS, MOST_LISTED, WALKS
-from webshapes.forms import are_bounds, straight_parts
+from webshapes.forms import DEEPEST, LISTS, MOST_BONDS, MOST_FORMS, MOST_LISTED, WALKS
+from webshapes.forms import are_bounds, length_of, straight_parts
 from webshapes.nodes import is_name, is_whole, node_in, show_node
 from webshapes.tokens import END, tokens_of
 
@@ -21,7 +21,7 @@ def show_inside(form):
 
 def show_form(form):
     head = form[0]
-    if LENGTHS[head] == 1:
+    if length_of(head) == 1:
         return head
     if head == "keeps":
         return head + " " + form[1]
@@ -136,7 +136,7 @@ def read_walk(reader, head, depth):
 
 # Whether a form may begin so behind as many forms, with room for the one that must stand in it.
 def may_begin(head, forms, depth, walked):
-    if head not in LENGTHS or (walked and (head in WALKS or head == "closed")):
+    if length_of(head) is None or (walked and (head in WALKS or head == "closed")):
         return False
     within = 1 if head in WALKS or head == "not" else 0
     return forms + 1 + within <= MOST_FORMS and depth + within <= DEEPEST

@@ -4,10 +4,6 @@ from webshapes.nodes import KINDS, is_whole
 from webshapes.simple import kinds_of, may_have, needed_rows, rules_out, rung_called
 
 
-def is_text_of(thing, texts):
-    return isinstance(thing, str) and thing in texts
-
-
 def names_of(rungs):
     return [rung[0] for rung in rungs]
 
@@ -15,7 +11,7 @@ def names_of(rungs):
 def is_hollow_tuple(thing, names):
     if not isinstance(thing, tuple) or len(thing) != 2:
         return False
-    return is_text_of(thing[0], names) and is_whole(thing[1]) and thing[1] >= 0
+    return thing[0] in names and is_whole(thing[1]) and thing[1] >= 0
 
 
 def are_hollow_tuples(hollows, names):
@@ -31,7 +27,7 @@ def is_shown_hollow(rung, rounds):
     return False
 
 
-# Whether just such nodes are told hollow as no web has; a lesser round each time, so that none rests on itself.
+# Rounds must fall from shape to shape, so that none is taken as hollow because it is itself.
 def hollows_hold(rungs, hollows):
     if not are_hollow_tuples(hollows, names_of(rungs)):
         return False
@@ -42,7 +38,7 @@ def hollows_hold(rungs, hollows):
 def is_related(thing, firsts, seconds):
     if not isinstance(thing, tuple) or len(thing) != 2:
         return False
-    return is_text_of(thing[0], firsts) and is_text_of(thing[1], seconds)
+    return thing[0] in firsts and thing[1] in seconds
 
 
 def is_no_greater(high, other):

@@ -2,8 +2,16 @@
 
 from webshapes.nodes import is_name
 
+BACK = "^"
+
 
 def is_step(thing):
-    if isinstance(thing, str) and thing.startswith("^"):
-        return is_name(thing[1:])
-    return is_name(thing)
+    return isinstance(thing, str) and is_name(bond_of(thing))
+
+
+def is_backward(step):
+    return step.startswith(BACK)
+
+
+def bond_of(step):
+    return step[1:] if is_backward(step) else step
