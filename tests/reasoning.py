@@ -1,6 +1,7 @@
 """Forms, reasons and papers told plainly: what a node keeps, some reason for it, and whether a reason shows it."""
 
-from webshapes.nodes import kind_of
+from webshapes.knots import knots
+from webshapes.nodes import is_node, kind_of
 from webshapes.webs import bonds_of, ends
 
 LISTS = ("all", "some", "one", "none")
@@ -147,8 +148,10 @@ def listed_shows(web, form, node, verdict, reason, rests):
             return False
         verdicts, reasons = {reason[1]: word != "all"}, reason[2:]
     elif reason[0] == "alone":
+        if word != "one" or not verdict or reason[1] >= len(parts):
+            return False
         verdicts = {place: place == reason[1] for place in range(len(parts))}
-        reasons = reason[2] if word == "one" and verdict else ()
+        reasons = reason[2]
     else:
         verdicts, reasons = {reason[1]: True, reason[2]: True}, reason[3:]
         if word != "one" or verdict or not reason[1] < reason[2]:
@@ -180,3 +183,106 @@ def paper_holds(web, book, paper):
         return False
     return all(shows(web, forms[name], node, kept, reason, lambda end, other, verdict: claims.get((end, other)) is verdict)
                for node, name, kept, rank, reason in paper)
+
+
+# What stands behind a reason's word: a reason, reasons, a place, ends with reasons, a node.
+INSIDES = {
+    "plain": "", "claim": "", "bound": "", "turn": "R", "every": "Q", "ends": "Q", "part": "kR", "alone": "kQ",
+    "two": "kkRR", "count": "EE", "lacks": "E", "over": "E", "end": "nR",
+}
+
+
+def is_inside(sort, thing):
+    if sort == "R":
+        return is_well_formed(thing)
+    if sort == "k":
+        return type(thing) is int and thing >= 0
+    if sort == "n":
+        return is_node(thing)
+    if type(thing) is not tuple:
+        return False
+    if sort == "Q":
+        return all(is_well_formed(part) for part in thing)
+    return all(type(pair) is tuple and len(pair) == 2 and is_node(pair[0]) and is_well_formed(pair[1]) for pair in thing)
+
+
+def is_well_formed(thing):
+    if type(thing) is not tuple or not thing or type(thing[0]) is not str or thing[0] not in INSIDES:
+        return False
+    sorts = INSIDES[thing[0]]
+    return len(sorts) == len(thing) - 1 and all(is_inside(sort, part) for sort, part in zip(sorts, thing[1:]))
+
+
+def strictly_shows(web, form, node, verdict, thing, rests):
+    """Of whatever thing; a word where another one should stand leads to a place that isn't there."""
+    if not is_well_formed(thing):
+        return False
+    try:
+        return shows(web, form, node, verdict, thing, rests)
+    except (IndexError, TypeError):
+        return False
+
+
+def is_well_formed_row(row, names):
+    if type(row) is not tuple or len(row) != 5 or not is_node(row[0]) or row[1] not in names:
+        return False
+    return type(row[2]) is bool and type(row[3]) is int and row[3] >= 0
+
+
+def strictly_holds(web, book, paper):
+    """Of whatever list, of any book."""
+    shapes = {name: (word, form) for name, word, form in book[0]}
+    if not all(is_well_formed_row(row, list(shapes)) for row in paper):
+        return False
+    told = {(node, name): (kept, rank) for node, name, kept, rank, reason in paper}
+    if len(told) < len(paper):
+        return False
+    mates = {name: knot for knot in knots(book) for name in knot}
+    for node, name, kept, rank, reason in paper:
+        ranked = kept if shapes[name][0] == "least" else not kept
+
+        def rests(end, other, verdict):
+            if (end, other) not in told or told[(end, other)][0] is not verdict:
+                return False
+            return other not in mates[name] or not ranked or told[(end, other)][1] < rank
+        if not strictly_shows(web, shapes[name][1], node, kept, reason, rests):
+            return False
+    return True
+
+
+def ranked_paper(chance, web, book, rows):
+    """A paper of all rows of the plain reading, with reasons of any such kind by what was kept ahead of each round."""
+    table = {(node, name): (kept, rank) for node, name, kept, rank in rows}
+    words = {name: word for name, word, form in book[0]}
+    forms = {name: form for name, word, form in book[0]}
+    mates = {name: knot for knot in knots(book) for name in knot}
+    paper = []
+    for node, name, kept, rank in rows:
+        begin = words[name] == "greatest"
+
+        def ahead(end, other):
+            if other not in mates[name] or rank == 0 or table[(end, other)][1] == 0:
+                return table[(end, other)][0]
+            return table[(end, other)][0] if table[(end, other)][1] < rank else begin
+        reason = needed_reason(chance, web, forms[name], node, ahead)
+        paper.append((node, name, kept, rank, reason))
+    return paper
+
+
+def needed_reason(chance, web, form, node, kept):
+    """Like some_reason, but of a many without a most no more than the ends that count."""
+    word = form[0]
+    if word == "not":
+        return ("turn", needed_reason(chance, web, form[1], node, kept))
+    if word in LISTS:
+        reason = listed_reason(chance, web, form, node, kept)
+        parts = [needed_reason(chance, web, part, node, kept) for part in form[1]]
+        if reason[0] == "part":
+            return ("part", reason[1], parts[reason[1]])
+        if reason[0] == "two":
+            return reason[:3] + (parts[reason[1]], parts[reason[2]])
+        return reason[:-1] + (tuple(parts),)
+    reason = some_reason(chance, web, form, node, kept)
+    if word == "many" and form[2] is None and reason[0] == "count":
+        return ("count", reason[1], ())
+    return reason

@@ -78,11 +78,19 @@ def book_of(shapes, debts):
     return (tuple(shapes), tuple(debts))
 
 
-def form_of(book, name):
+def shape_of(book, name):
     for shape in book[0]:
         if shape[0] == name:
-            return shape[2]
+            return shape
     raise Unknown(name)
+
+
+def word_of(book, name):
+    return shape_of(book, name)[1]
+
+
+def form_of(book, name):
+    return shape_of(book, name)[2]
 
 
 def read_as(book, word):
