@@ -2,7 +2,7 @@
 
 from webshapes.books import form_of, word_of
 from webshapes.forms import LISTS
-from webshapes.knots import knots
+from webshapes.knots import knot_numbers
 from webshapes.nodes import in_order, is_node, is_whole
 from webshapes.values import is_between, keeps_form
 from webshapes.webs import ends
@@ -134,14 +134,6 @@ def is_row(thing, names):
     return isinstance(thing[2], bool) and is_whole(thing[3]) and thing[3] >= 0
 
 
-def knots_by_name(book):
-    found = {}
-    for number, knot in enumerate(knots(book)):
-        for name in knot:
-            found[name] = number
-    return found
-
-
 # Kept in a least knot and not kept in a greatest one must have a beginning: only there ranks count.
 def is_ranked(book, row):
     return row[2] == (word_of(book, row[1]) == "least")
@@ -167,5 +159,5 @@ def holds(web, book, paper):
     rows = {}
     for row in paper:
         rows[row[:2]] = row
-    ties = knots_by_name(book)
+    ties = knot_numbers(book)
     return len(rows) == len(paper) and all([row_holds(web, book, ties, rows, row) for row in paper])

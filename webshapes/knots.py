@@ -45,6 +45,15 @@ def knots(book):
     return told
 
 
+# A dict of names and the numbers of their knots, by which it is told whether two are of one.
+def knot_numbers(book):
+    found = {}
+    for number, knot in enumerate(knots(book)):
+        for name in knot:
+            found[name] = number
+    return found
+
+
 def least_above(height, sign):
     return height + 1 if sign == "against" else height
 
