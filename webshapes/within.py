@@ -14,20 +14,25 @@ def all_tuples(rungs, others):
     return found
 
 
+def unfit_of(rungs, others, relation, empty):
+    unfit = []
+    for one, other in relation:
+        if not tuple_fits(rungs, one, rung_called(others, other), relation, empty):
+            unfit.append((one, other))
+    return unfit
+
+
 # A tuple of the greatest relation that holds, and a dict of the breaches of all other tuples. Those of a round come of
 # the relation ahead of it, so a breach leads to tuples of earlier rounds alone, and so to an end.
 def sifted(rungs, others, empty):
     relation = all_tuples(rungs, others)
     breaches = {}
-    unfit = relation
+    unfit = unfit_of(rungs, others, relation, empty)
     while unfit:
-        unfit = []
-        for one, other in relation:
-            rung = rung_called(others, other)
-            if not tuple_fits(rungs, one, rung, relation, empty):
-                unfit.append((one, other))
-                breaches[(one, other)] = breach_of(rungs, one, rung, relation, empty)
-        relation = [pair for pair in relation if pair not in unfit]
+        for one, other in unfit:
+            breaches[(one, other)] = breach_of(rungs, one, rung_called(others, other), relation, empty)
+        relation = [pair for pair in relation if pair not in breaches]
+        unfit = unfit_of(rungs, others, relation, empty)
     return (relation, breaches)
 
 
